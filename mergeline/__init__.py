@@ -1,0 +1,1 @@
+"""Mergeline: lines of goods that meet at desks, with bounds of waiting told ahead."""
