@@ -29,6 +29,11 @@ METHODS = """
     split splitlines startswith strip update upper values zfill bit_length
 """.split()
 TWO_UNDERSCORES = ("__init__", "__eq__", "__repr__", "__str__", "__len__")
+WALKED = ("zip", "enumerate", "reversed", "range", "items", "keys", "values")
+WALKERS = ("list", "tuple", "dict", "sorted", "sum", "any", "all", "enumerate", "zip", "min", "max", "join")
+CHANGES = ("append", "clear", "extend", "insert", "pop", "remove", "reverse", "setdefault", "update")
+KEYWORDS = {"sorted": ("key", "reverse"), "min": ("key", "default"), "max": ("key", "default"), "sum": ("start",),
+            "enumerate": ("start",), "zip": ("strict",)}
 UNUSED_NAMES = ("register", "mro", "elements", "open", "input", "format", "format_map", "args", "encode", "sort")
 UNUSED_WORDS = """
     type typing typing_extensions enum Enum IntEnum StrEnum Flag IntFlag Generic Protocol ABC ABCMeta namedtuple
@@ -57,6 +62,40 @@ def bound_names(tree):
         elif isinstance(node, ast.ExceptHandler) and node.name:
             names.append(node.name)
     return names
+
+
+def called(node):
+    """The name of the function or method that is called, the empty text for no call."""
+    if not isinstance(node, ast.Call):
+        return ""
+    return node.func.id if isinstance(node.func, ast.Name) else node.func.attr
+
+
+def imported(tree):
+    return [alias.asname or alias.name for node in tree.body if isinstance(node, ast.ImportFrom) for alias in node.names]
+
+
+def changed_in(loop):
+    """The written forms of all that is changed in a loop."""
+    found = []
+    for node in [inner for one in loop.body for inner in ast.walk(one)]:
+        if isinstance(node, (ast.Subscript, ast.Name, ast.Attribute)) and isinstance(node.ctx, ast.Store):
+            found.append(ast.unparse(node.value if isinstance(node, ast.Subscript) else node))
+        if called(node) in CHANGES and isinstance(node.func, ast.Attribute):
+            found.append(ast.unparse(node.func.value))
+    return found
+
+
+def walked_by(loop):
+    """The written forms of all that a loop walks, also through `enumerate`, `items` and their like."""
+    left, found = [loop.iter], []
+    while left:
+        node = left.pop()
+        if called(node) in WALKED:
+            left.extend(node.args + ([node.func.value] if isinstance(node.func, ast.Attribute) else []))
+        else:
+            found.append(ast.unparse(node))
+    return found
 
 
 class Language(unittest.TestCase):
@@ -177,6 +216,74 @@ class Language(unittest.TestCase):
         for at, path, node in self.walked():
             if isinstance(node, ast.Attribute) and path.name != MAIN:
                 self.assertIn(node.attr, own | set(METHODS), at)
+
+    def test_no_local_is_called_like_a_class_or_an_import_of_its_file(self):
+        for path, tree in self.trees.items():
+            taken = set(imported(tree)) | {node.name for node in tree.body if isinstance(node, ast.ClassDef)}
+            for node in ast.walk(tree):
+                if isinstance(node, ast.arg):
+                    self.assertNotIn(node.arg, taken, f"{path.name}:{node.lineno}")
+                if isinstance(node, ast.Name) and isinstance(node.ctx, ast.Store):
+                    self.assertNotIn(node.id, taken, f"{path.name}:{node.lineno}")
+
+    def test_no_name_is_a_method_and_a_value(self):
+        methods, values = set(), set()
+        for at, path, node in self.walked():
+            if isinstance(node, ast.ClassDef):
+                names = [one.name for one in node.body if isinstance(one, ast.FunctionDef)]
+                self.assertEqual(len(names), len(set(names)), at)
+                methods.update(names)
+            if isinstance(node, ast.Attribute) and isinstance(node.ctx, ast.Store):
+                values.add(node.attr)
+        self.assertEqual(methods & values, set())
+
+    def test_keywords(self):
+        for at, path, node in self.walked():
+            if called(node) in BUILT_IN or called(node) in METHODS:
+                for one in node.keywords:
+                    self.assertIn(one.arg, KEYWORDS.get(called(node), ()), at)
+
+    def test_walked_at_once(self):
+        for path, tree in self.trees.items():
+            allowed = []
+            for node in ast.walk(tree):
+                if isinstance(node, (ast.For, ast.comprehension)):
+                    allowed.append(node.iter)
+                if called(node) in WALKERS and node.args:
+                    allowed.extend(node.args if called(node) == "zip" else node.args[:1])
+            for node in ast.walk(tree):
+                if called(node) in WALKED:
+                    self.assertTrue(any(node is one for one in allowed), f"{path.name}:{node.lineno}")
+
+    def test_what_a_loop_walks_is_not_changed_in_it(self):
+        for at, path, node in self.walked():
+            if isinstance(node, ast.For):
+                self.assertEqual(set(walked_by(node)) & set(changed_in(node)), set(), at)
+
+    def test_sets_are_not_kept(self):
+        for path, tree in self.trees.items():
+            allowed = []
+            for node in ast.walk(tree):
+                if called(node) in ("len", "sorted") and not node.keywords:
+                    allowed.extend(node.args)
+                if isinstance(node, ast.Compare):
+                    allowed.extend([node.left] + node.comparators)
+            for node in ast.walk(tree):
+                if called(node) == "set":
+                    self.assertTrue(any(node is one for one in allowed), f"{path.name}:{node.lineno}")
+
+    def test_lists_and_dicts_of_a_files_top_are_only_read(self):
+        for path, tree in self.trees.items():
+            kept = [node.targets[0].id for node in tree.body
+                    if isinstance(node, ast.Assign) and isinstance(node.value, (ast.List, ast.Dict))]
+            for node in ast.walk(tree):
+                at = f"{path.name}:{getattr(node, 'lineno', 0)}"
+                if isinstance(node, ast.Subscript) and isinstance(node.ctx, ast.Store):
+                    self.assertNotIn(ast.unparse(node.value), kept, at)
+                if called(node) in CHANGES and isinstance(node.func, ast.Attribute):
+                    self.assertNotIn(ast.unparse(node.func.value), kept, at)
+                if isinstance(node, ast.Return) and node.value is not None:
+                    self.assertNotIn(ast.unparse(node.value), kept, at)
 
     def test_is_stands_beside_none_true_and_false_alone(self):
         for at, path, node in self.walked():
