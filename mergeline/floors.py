@@ -4,7 +4,7 @@ A good that waits is kept as the rules ask for it, (good, since, kind, parcel), 
 handed on as the plant has it, (name, to, rule, places).
 """
 
-from mergeline.plants import open_at, work_of
+from mergeline.plants import finds_room, open_at, work_of
 from mergeline.rules import load_of
 
 
@@ -89,9 +89,7 @@ class Floor:
 
     def has_room(self, desk):
         """Whether the line into which the desk puts has room for all of its load."""
-        if desk[1] == "":
-            return True
-        return len(self.waiting[desk[1]]) + len(self.loads[desk[0]][0]) <= self.plant.lines[desk[1]]
+        return finds_room(self.plant, self.waiting, desk[1], self.loads[desk[0]][0])
 
     def can_put(self, desk, t):
         """Whether the desk can put at t."""

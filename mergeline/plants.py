@@ -64,6 +64,11 @@ def open_at(plant, desk, time):
     return any([start <= time < end for start, end in plant.hours[desk]])
 
 
+def finds_room(plant, places, to, goods):
+    """Whether a line has room for these goods beside those that wait there, told by places; out always has."""
+    return to == "" or len(places[to]) + len(goods) <= plant.lines[to]
+
+
 def fits(shape, word):
     """Whether a word is written in this shape."""
     if shape == "name":

@@ -7,25 +7,21 @@ import unittest
 from mergeline.floors import Floor
 from mergeline.plants import open_at, read_plant, work_of
 from mergeline.rules import load_of
-from tests.helper import done_at, fields_of, parts_of, some_day, some_rows, spoil_parts
+from tests.helper import day_of, done_at, fields_of, parts_of, some_day, some_rows, spoil_parts
 
 
 def floor_of(rows, *goods):
     """A floor of a plant's rows and goods written as in a day's text."""
-    day = []
-    for good in goods:
-        words = good.split()
-        day.append((int(words[0]), words[1], words[2], "" if words[3] == "-" else words[3]))
-    return Floor(read_plant("\n".join(rows)), day)
+    return Floor(read_plant("\n".join(rows)), day_of(*goods))
 
 
-def book_of(floor, last):
+def done_to(floor, last):
     """All entries of the times from 0 to last."""
     return [entry for t in range(last + 1) for entry in done_at(floor, t)]
 
 
 def acts_of(floor, last):
-    return [entry for entry in book_of(floor, last) if entry[0] in ("take", "put")]
+    return [entry for entry in done_to(floor, last) if entry[0] in ("take", "put")]
 
 
 class Coming(unittest.TestCase):
@@ -59,7 +55,7 @@ class Coming(unittest.TestCase):
 
     def test_the_empty_day(self):
         floor = floor_of(self.ROWS)
-        self.assertEqual(book_of(floor, 5), [])
+        self.assertEqual(done_to(floor, 5), [])
 
     def test_a_gate_holds_any_number(self):
         floor = floor_of(self.ROWS, *["1 a k -"] * 200)
@@ -71,7 +67,7 @@ class Spoiling(unittest.TestCase):
     def test_at_the_gate(self):
         floor = floor_of(["kind k 3", "kind l 1", "kind m -", "gate a", "gate b"],
                          "0 b k -", "0 a k -", "0 a m -", "2 b l -", "2 a k -")
-        self.assertEqual(book_of(floor, 2), [("come", 0, 0), ("come", 0, 1), ("come", 0, 2), ("come", 2, 3),
+        self.assertEqual(done_to(floor, 2), [("come", 0, 0), ("come", 0, 1), ("come", 0, 2), ("come", 2, 3),
                                              ("come", 2, 4)])
         self.assertEqual(floor.come(3), [])
         self.assertEqual(floor.spoil(3), [("spoil", 3, 0), ("spoil", 3, 1), ("spoil", 3, 3)])
@@ -84,7 +80,7 @@ class Spoiling(unittest.TestCase):
 
     def test_a_spoilt_good_is_gone_for_good(self):
         floor = floor_of(["kind k 1", "gate a", "desk d to - by eldest from a", "open d 1 9"], "0 a k -", "1 a k -")
-        self.assertEqual(book_of(floor, 2), [("come", 0, 0), ("come", 1, 1), ("spoil", 1, 0), ("take", 1, "d", (1,)),
+        self.assertEqual(done_to(floor, 2), [("come", 0, 0), ("come", 1, 1), ("spoil", 1, 0), ("take", 1, "d", (1,)),
                                              ("put", 2, "d", (1,))])
 
     def test_told_by_rising_numbers_whatever_their_places(self):
@@ -94,19 +90,19 @@ class Spoiling(unittest.TestCase):
 
     def test_in_a_line_counted_from_the_coming_to_the_gate(self):
         floor = floor_of(["kind k 6", "gate a", "line p 2", "desk d to p by eldest from a", "time d k 2"], "1 a k -")
-        self.assertEqual(book_of(floor, 6), [("come", 1, 0), ("take", 1, "d", (0,)), ("put", 3, "d", (0,))])
+        self.assertEqual(done_to(floor, 6), [("come", 1, 0), ("take", 1, "d", (0,)), ("put", 3, "d", (0,))])
         self.assertEqual(floor.places_now(), {"a": [], "p": [0]})
         self.assertEqual(done_at(floor, 7), [("spoil", 7, 0)])
         self.assertEqual(floor.places_now(), {"a": [], "p": []})
 
     def test_not_in_a_load(self):
         floor = floor_of(["kind k 2", "gate a", "desk d to - by eldest from a", "time d k 5"], "0 a k -")
-        self.assertEqual(book_of(floor, 9), [("come", 0, 0), ("take", 0, "d", (0,)), ("put", 5, "d", (0,))])
+        self.assertEqual(done_to(floor, 9), [("come", 0, 0), ("take", 0, "d", (0,)), ("put", 5, "d", (0,))])
 
     def test_not_in_a_load_that_waits_for_room(self):
         floor = floor_of(["kind k 4", "kind m -", "gate a", "line p 1", "desk d to p by eldest from a"],
                          "0 a m -", "0 a k -")
-        self.assertEqual(book_of(floor, 20)[2:], [("take", 0, "d", (0,)), ("put", 1, "d", (0,)), ("take", 1, "d", (1,))])
+        self.assertEqual(done_to(floor, 20)[2:], [("take", 0, "d", (0,)), ("put", 1, "d", (0,)), ("take", 1, "d", (1,))])
         self.assertEqual(floor.loads_now(), {"d": ((1,), 2)})
 
     def test_put_into_a_line_past_its_time_and_taken_at_that_time(self):
@@ -114,18 +110,18 @@ class Spoiling(unittest.TestCase):
                 "time d k 5"]
         for kept in (rows, rows[:3] + [rows[4], rows[3], rows[5]]):
             floor = floor_of(kept, "0 a k -")
-            self.assertEqual(book_of(floor, 9)[2:], [("put", 5, "d", (0,)), ("take", 5, "e", (0,)), ("put", 6, "e", (0,))])
+            self.assertEqual(done_to(floor, 9)[2:], [("put", 5, "d", (0,)), ("take", 5, "e", (0,)), ("put", 6, "e", (0,))])
 
     def test_put_into_a_line_past_its_time_and_taken_away_at_the_next(self):
         rows = ["kind k 2", "gate a", "line p 1", "desk d to p by eldest from a", "time d k 5"]
         floor = floor_of(rows, "0 a k -")
-        self.assertEqual(book_of(floor, 5)[2:], [("put", 5, "d", (0,))])
+        self.assertEqual(done_to(floor, 5)[2:], [("put", 5, "d", (0,))])
         self.assertEqual(floor.places_now()["p"], [0])
         self.assertEqual(floor.next_time(5), 6)
         self.assertEqual(done_at(floor, 6), [("spoil", 6, 0)])
         # The next time that is asked, where that is a later one.
         floor = floor_of(rows, "0 a k -")
-        book_of(floor, 5)
+        done_to(floor, 5)
         self.assertEqual(done_at(floor, 8), [("spoil", 8, 0)])
 
     def test_spoils_just_when_its_time_is_up_though_a_desk_could_take_it(self):
@@ -174,7 +170,7 @@ class Acting(unittest.TestCase):
     def test_an_earlier_desk_acts_again_behind_a_later_one(self):
         floor = floor_of(["kind k -", "gate a", "line p 1", "desk d to p by eldest from a", "desk e to - by eldest from p"],
                          "0 a k -", "0 a k -", "0 a k -")
-        book_of(floor, 1)
+        done_to(floor, 1)
         self.assertEqual(floor.places_now(), {"a": [2], "p": []})
         self.assertEqual(done_at(floor, 2), [("put", 2, "d", (1,)), ("take", 2, "d", (2,)), ("put", 2, "e", (0,)),
                                              ("take", 2, "e", (1,))])
@@ -193,7 +189,7 @@ class Acting(unittest.TestCase):
     def test_room_that_a_spoilt_good_leaves(self):
         floor = floor_of(["kind k 4", "kind m -", "gate a", "line p 1", "desk d to p by eldest from a"],
                          "0 a k -", "0 a m -")
-        self.assertEqual(book_of(floor, 9)[2:], [
+        self.assertEqual(done_to(floor, 9)[2:], [
             ("take", 0, "d", (0,)), ("put", 1, "d", (0,)), ("take", 1, "d", (1,)), ("spoil", 4, 0), ("put", 4, "d", (1,)),
         ])
 
@@ -210,7 +206,7 @@ class Acting(unittest.TestCase):
         for room, due in ((3, None), (4, ("put", 3, "d", (1, 2)))):
             floor = floor_of(["kind k -", "gate a", "gate b", f"line p {room}", "desk d to p by many 2 from a",
                               "desk e to p by many 2 from b", "time d k 3"], "0 b k -", "0 a k -", "0 a k -", "0 b k -")
-            book_of(floor, 2)
+            done_to(floor, 2)
             self.assertEqual(floor.places_now()["p"], [0, 3])
             self.assertEqual(floor.act(3), due)
             self.assertEqual(floor.places_now()["p"], [0, 3] if due is None else [0, 3, 1, 2])
@@ -402,7 +398,7 @@ class Telling(unittest.TestCase):
 
     def test_the_order_stays_behind_many_deeds(self):
         floor = floor_of(self.ROWS, "0 a k -", "0 b k -", "3 b k -")
-        book_of(floor, 20)
+        done_to(floor, 20)
         self.assertEqual(list(floor.places_now()), ["b", "a", "p", "o", "q"])
         self.assertEqual(list(floor.loads_now()), ["e", "d"])
 
@@ -422,7 +418,7 @@ class Telling(unittest.TestCase):
         floor = floor_of(self.ROWS, "0 b k -", "0 a k -", "1 b k -")
         told = [floor.come(0), floor.spoil(0), floor.places_now(), floor.loads_now()]
         kept = copy.deepcopy(told)
-        book_of(floor, 20)
+        done_to(floor, 20)
         self.assertEqual(told, kept)
 
     def test_changing_what_was_told_changes_nothing(self):
@@ -596,9 +592,9 @@ class HandedIn(unittest.TestCase):
         plant = read_plant("kind k -\ngate a\nline p 2\ndesk d to p by turns 1 1 from a p")
         day = [(0, "a", "k", ""), (0, "a", "k", "")]
         one, other = Floor(plant, day), Floor(plant, day)
-        first = book_of(one, 5)
+        first = done_to(one, 5)
         self.assertEqual((other.places_now(), other.loads_now()), ({"a": [], "p": []}, {"d": None}))
-        self.assertEqual(book_of(other, 5), first)
+        self.assertEqual(done_to(other, 5), first)
 
 
 class Model:
