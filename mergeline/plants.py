@@ -163,7 +163,7 @@ def tells_twice(plant, entry):
     if form == "gate" or form == "line":
         return is_place(plant, name)
     if form == "desk":
-        return is_desk(plant, name) or any([is_taken_from(plant, place) for place in entry[4]])
+        return is_desk(plant, name) or any([takers_of(plant, place) != [] for place in entry[4]])
     if form == "time":
         return (name, entry[2]) in plant.times
     return form == "pace" and name in plant.paces
@@ -199,9 +199,9 @@ def is_desk(plant, name):
     return name in [desk[0] for desk in plant.desks]
 
 
-def is_taken_from(plant, place):
-    """Whether a desk of the plant takes from this place."""
-    return any([place in desk[3] for desk in plant.desks])
+def takers_of(plant, place):
+    """The desks that take from this place: one, or none at all."""
+    return [desk for desk in plant.desks if place in desk[3]]
 
 
 def add_entry(plant, entry):

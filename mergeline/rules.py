@@ -7,12 +7,11 @@ A spot is a pair (place's number, number in its list).
 
 def load_of(rule, rows, turn, now):
     """The spots that a desk of this rule takes at the time now, and the turn behind it."""
-    spots = spots_by_age(rows)
-    if not spots:
+    if not any(rows):
         return ([], turn)
     if rule[0] == "turns":
         return load_by_turns(rule[1], rows, turn)
-    return (load_by_age(rule, rows, spots, now), turn)
+    return (load_by_age(rule, rows, spots_by_age(rows), now), turn)
 
 
 def greatest_load(rule, many):

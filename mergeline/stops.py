@@ -1,6 +1,6 @@
 """Desks that stop one another: a stopped desk's work is done, and the line into which it puts lacks room."""
 
-from mergeline.plants import finds_room
+from mergeline.plants import finds_room, takers_of
 
 
 def stopped(plant, places, loads, time):
@@ -30,6 +30,5 @@ def is_stopped(plant, places, load, time, to):
 def taker_behind(plant, name):
     """The desk that takes from the line into which the desk of this name puts, the empty text where none does."""
     lines = [desk[1] for desk in plant.desks if desk[0] == name]
-    # No two desks take from one place.
-    takers = [desk[0] for desk in plant.desks if lines[0] in desk[3]]
-    return takers[0] if takers else ""
+    takers = takers_of(plant, lines[0])
+    return takers[0][0] if takers else ""

@@ -1,5 +1,5 @@
-"""What several tests use: plants and days by chance, days and books written short, the lists and dicts within a value,
-and a floor's time done.
+"""What several tests use: plants and days by chance, also such within paces, days and books written short, the lists and
+dicts within a value, and a floor's time done.
 """
 
 from mergeline.errors import BadPlant
@@ -139,3 +139,55 @@ def some_day(chance, plant, last=25):
     times = sorted(chance.randint(0, last) for count in range(chance.randint(0, 25)))
     kinds = list(plant.kinds)
     return [(time, chance.choice(plant.gates), chance.choice(kinds), chance.choice(["", "x", "y"])) for time in times]
+
+
+def paced_rows(chance, rule, many, most):
+    """The rows of a plant with a desk `d` of such a rule over so many gates with paces, beside a desk of other gates.
+
+    Works and bursts are at most most, and gaps such that the load is often not full; `turns` gets shares.
+    """
+    gates = ["a", "b", "c", "e", "f", "g"][:many]
+    chance.shuffle(gates)
+    kinds = ["k", "l", "m", "n", "o", "p"][:chance.randint(1, many)]
+    words = rule if rule != "turns" else "turns " + " ".join(str(chance.randint(1, 4)) for gate in gates)
+    rows = [f"kind {kind} -" for kind in kinds] + ["kind z 3"] + [f"gate {gate}" for gate in sorted(gates) + ["y", "z"]]
+    rows += ["line q 1", "desk x to q by many 1 from y z", "desk w to - by eldest from q", "time w z 4"]
+    rows.insert(chance.randint(len(rows) - 3, len(rows)), f"desk d to - by {words} from {' '.join(gates)}")
+    works = {kind: chance.randint(1, min(most, 80 // many)) for kind in kinds}
+    rows += [f"time d {kind} {work}" for kind, work in works.items() if work > 1]
+    for gate in gates:
+        kind = chance.choice(kinds)
+        gap = chance.randint(min(60, works[kind] + 1), min(60, 2 * many * works[kind] + 3))
+        rows.append(f"pace {gate} {kind} {chance.randint(1, most)} {gap}")
+    return rows + ["pace y z 2 7"]
+
+
+def may_come(times, time, burst, gap):
+    """Whether, behind goods that came at these times, one more may come at a time, by each window that ends there."""
+    return all(len([one for one in times if one >= start]) + 1 <= burst + (time - start) // gap
+               for start in set(times) | {time})
+
+
+def paced_times(chance, burst, gap, last):
+    """Times to last at which goods come within a pace: as fast as may be, or as it happens."""
+    first = chance.choice([0, 0, 1, 2, chance.randint(0, gap)])
+    if chance.random() < 0.6:
+        return [first] * burst + list(range(first + gap, last + 1, gap))
+    times = []
+    often = chance.choice([0.1, 0.4, 0.9])
+    for time in range(first, last + 1):
+        for count in range(chance.choice([1, 2, burst]) if chance.random() < often else 0):
+            if may_come(times, time, burst, gap):
+                times.append(time)
+    return times
+
+
+def paced_day(chance, plant, last):
+    """A day within the paces, with goods at gates without a pace too."""
+    day = []
+    for gate in plant.gates:
+        kind, burst, gap = plant.paces.get(gate, ("", 0, 0))
+        times = paced_times(chance, burst, gap, last) if kind else [chance.randint(0, last) for count in range(4)]
+        day += [(time, gate, kind or chance.choice(list(plant.kinds)), "") for time in times if time <= last]
+    chance.shuffle(day)
+    return sorted(day, key=lambda good: good[0])
